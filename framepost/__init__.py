@@ -1,0 +1,1 @@
+"""Framepost: letters one behind the other on one road."""

@@ -1,0 +1,142 @@
+"""The form of the package's own files, as far as a short test can see it (LANGUAGE.md, by rule)."""
+
+import ast
+import builtins
+import pathlib
+import re
+import unittest
+
+PACKAGE = pathlib.Path(__file__).resolve().parent.parent / "framepost"
+
+STATEMENTS = (
+    ast.FunctionDef, ast.ClassDef, ast.Return, ast.Assign, ast.AugAssign, ast.For, ast.While, ast.If, ast.Raise,
+    ast.Try, ast.ImportFrom, ast.Expr, ast.Pass, ast.Break, ast.Continue,
+)
+EXPRESSIONS = (
+    ast.BoolOp, ast.BinOp, ast.UnaryOp, ast.Lambda, ast.IfExp, ast.Dict, ast.Set, ast.ListComp, ast.Compare, ast.Call,
+    ast.FormattedValue, ast.JoinedStr, ast.Constant, ast.Attribute, ast.Subscript, ast.Name, ast.List, ast.Tuple,
+    ast.Slice,
+)
+OWN_NAMES = set(
+    "len range enumerate zip min max sum abs sorted reversed int str bool list tuple dict set frozenset isinstance ord"
+    " repr any all divmod Exception ValueError TypeError KeyError IndexError LookupError ZeroDivisionError"
+    " ArithmeticError OverflowError RuntimeError NotImplementedError AttributeError StopIteration".split())
+METHODS = set(
+    "append clear copy count endswith extend find get index insert isalnum isalpha isdigit islower isspace isupper"
+    " items join keys ljust lower lstrip partition pop remove replace reverse rfind rjust rpartition rsplit rstrip"
+    " setdefault split splitlines startswith strip update upper values zfill bit_length".split())
+FORBIDDEN_WORDS = re.compile(
+    r"\b(type|typing|typing_extensions|enum|Enum|IntEnum|StrEnum|Flag|IntFlag|Generic|Protocol|ABC|ABCMeta|namedtuple"
+    r"|NamedTuple|TypedDict|TYPE_CHECKING|abstractmethod)\b|dataclass|overload|contextmanager")
+UNUSED_NAMES = set(
+    "register mro elements open input version_info with_traceback add_note attrgetter breakpoint builtins compile"
+    " copyright credits delattr dir eval exec exit gc getattr globals hasattr help id importlib license locals"
+    " methodcaller os quit setattr super type vars sys".split())
+
+
+class Form(unittest.TestCase):
+    def setUp(self):
+        self.files = sorted(PACKAGE.glob("*.py"))
+        self.texts = {path.name: path.read_text(encoding="utf-8") for path in self.files}
+        self.trees = {name: ast.parse(text) for name, text in self.texts.items()}
+
+    def nodes(self, *kinds):
+        for name, tree in self.trees.items():
+            for node in ast.walk(tree):
+                if isinstance(node, kinds):
+                    yield f"{name}:{getattr(node, 'lineno', 0)}", node
+
+    def test_files(self):
+        """L1, L14."""
+        self.assertIn("__init__.py", self.texts)
+        for path in PACKAGE.iterdir():
+            if path.name != "__pycache__":
+                self.assertTrue(path.is_file() and path.suffix == ".py", path.name)
+                self.assertRegex(path.name, r"\A(__init__|[a-z][a-z0-9_]*)\.py\Z")
+                self.assertFalse(path.stem.startswith("test") or path.stem in dir(builtins), path.name)
+
+    def test_signs_sizes_and_words(self):
+        """L10, L14, L17."""
+        for name, text in self.texts.items():
+            rows = text.split("\n")
+            self.assertLessEqual(len(rows), 400, name)
+            for number, row in enumerate(rows, start=1):
+                where = f"{name}:{number}"
+                self.assertLessEqual(len(row), 120, where)
+                self.assertTrue(all(" " <= sign <= "~" for sign in row), where)
+                self.assertIsNone(FORBIDDEN_WORDS.search(row), where)
+        for where, node in self.nodes(ast.FunctionDef):
+            self.assertLessEqual(node.end_lineno - node.lineno + 1, 40, where)
+
+    def test_statements_and_expressions(self):
+        """L6, L7, L20, L27."""
+        for where, node in self.nodes(ast.stmt):
+            self.assertIsInstance(node, STATEMENTS, where)
+            self.assertFalse(getattr(node, "finalbody", None), where)
+            self.assertFalse(isinstance(node, (ast.For, ast.While)) and node.orelse, where)
+            self.assertFalse(isinstance(node, ast.Assign) and len(node.targets) != 1, where)
+        for where, node in self.nodes(ast.expr):
+            self.assertIsInstance(node, EXPRESSIONS, where)
+            self.assertFalse(isinstance(node, ast.BinOp) and isinstance(node.op, ast.Div), where)
+            if isinstance(node, ast.Constant):
+                self.assertNotIsInstance(node.value, (float, complex, bytes), where)
+                self.assertNotIn("%", str(node.value), where)
+            if isinstance(node, ast.ListComp):
+                self.assertEqual(len(node.generators), 1, where)
+                self.assertLessEqual(len(node.generators[0].ifs), 1, where)
+            if isinstance(node, ast.Compare) and any(isinstance(op, (ast.Is, ast.IsNot)) for op in node.ops):
+                self.assertTrue(all(isinstance(side, ast.Constant) for side in node.comparators), where)
+
+    def test_imports(self):
+        """L2, L16."""
+        for where, node in self.nodes(ast.ImportFrom):
+            self.assertEqual(node.level, 0, where)
+            self.assertRegex(node.module, r"\Aframepost\.[a-z]", where)
+            source = self.trees[node.module.split(".")[1] + ".py"]
+            for alias in node.names:
+                self.assertIn(alias.name, self.bound_at_top(source), where)
+
+    def bound_at_top(self, tree):
+        names = [node.name for node in tree.body if isinstance(node, (ast.FunctionDef, ast.ClassDef))]
+        names += [node.targets[0].id for node in tree.body if isinstance(node, ast.Assign)]
+        self.assertEqual(len(names), len(set(names)))
+        return names
+
+    def test_no_two_files_draw_from_one_another(self):
+        """L16."""
+        draws = {name: {node.module.split(".")[1] + ".py" for node in tree.body if isinstance(node, ast.ImportFrom)}
+                 for name, tree in self.trees.items()}
+        self.assertEqual(draws["__init__.py"], set())
+        while draws:
+            free = [name for name in draws if not draws[name] & set(draws)]
+            self.assertTrue(free, "a ring of imports in " + ", ".join(sorted(draws)))
+            for name in free:
+                draws.pop(name)
+
+    def test_functions_and_classes(self):
+        """L4, L5, L21."""
+        for where, node in self.nodes(ast.FunctionDef):
+            plain = node.args
+            self.assertFalse(node.decorator_list or node.returns, where)
+            self.assertFalse(plain.vararg or plain.kwarg or plain.kwonlyargs or plain.posonlyargs, where)
+        for where, node in self.nodes(ast.ClassDef):
+            self.assertFalse(node.decorator_list or node.keywords, where)
+            self.assertLessEqual(len(node.bases), 1, where)
+
+    def test_names(self):
+        """L8, L12, L15, L17, L25."""
+        own_methods = {node.name for where, node in self.nodes(ast.FunctionDef)}
+        for where, node in self.nodes(ast.Name, ast.arg):
+            name = node.id if isinstance(node, ast.Name) else node.arg
+            self.assertFalse(name.startswith("_"), where)
+            self.assertNotIn(name, UNUSED_NAMES, where)
+            if name in dir(builtins):
+                self.assertIn(name, OWN_NAMES, where)
+                self.assertTrue(isinstance(node, ast.Name) and isinstance(node.ctx, ast.Load), where)
+        for where, node in self.nodes(ast.Call):
+            if isinstance(node.func, ast.Attribute):
+                self.assertIn(node.func.attr, METHODS | own_methods | {"__init__"}, where)
+
+
+if __name__ == "__main__":
+    unittest.main()
