@@ -32,6 +32,12 @@ UNUSED_NAMES = set(
     "register mro elements open input version_info with_traceback add_note attrgetter breakpoint builtins compile"
     " copyright credits delattr dir eval exec exit gc getattr globals hasattr help id importlib license locals"
     " methodcaller os quit setattr super type vars sys".split())
+DUNDERS = {"__init__", "__eq__", "__repr__", "__str__", "__len__"}
+KEYWORDS = {"key", "reverse", "default", "start", "strict"}
+# What Python's own values have; of these, own methods and values may be called as L26 lists.
+TAKEN = {name for kind in (str, int, list, tuple, dict, set, frozenset, bytes) for name in dir(kind)}
+FREE_METHODS = METHODS | {"add", "discard"}
+FREE_VALUES = set("count index title find get join lower upper split strip copy add".split())
 
 
 class Form(unittest.TestCase):
@@ -136,6 +142,61 @@ class Form(unittest.TestCase):
         for where, node in self.nodes(ast.Call):
             if isinstance(node.func, ast.Attribute):
                 self.assertIn(node.func.attr, METHODS | own_methods | {"__init__"}, where)
+
+    def test_the_top_of_a_module(self):
+        """L3."""
+        for name, tree in self.trees.items():
+            self.assertIsInstance(tree.body[0], ast.Expr, name)
+            for node in tree.body[1:]:
+                self.assertIsInstance(node, (ast.ImportFrom, ast.FunctionDef, ast.ClassDef, ast.Assign), name)
+                if isinstance(node, ast.Assign):
+                    ast.literal_eval(node.value)
+
+    def test_class_bodies(self):
+        """L5, L18, L28."""
+        for where, node in self.nodes(ast.ClassDef):
+            self.assertIsInstance(node.body[0], (ast.Expr, ast.FunctionDef), where)
+            self.assertTrue(all(isinstance(part, ast.FunctionDef) for part in node.body[1:]), where)
+            names = [part.name for part in node.body if isinstance(part, ast.FunctionDef)]
+            self.assertEqual(len(names), len(set(names)), where)
+            self.assertLessEqual({name for name in names if name.startswith("_")}, DUNDERS, where)
+            for method in node.body:
+                if isinstance(method, ast.FunctionDef) and method.name == "__init__":
+                    self.assertFalse([part for part in ast.walk(method) if isinstance(part, ast.Return)], where)
+
+    def methods(self):
+        return {part.name for where, node in self.nodes(ast.ClassDef) for part in node.body
+                if isinstance(part, ast.FunctionDef)}
+
+    def test_own_methods_and_values(self):
+        """L18, L25, L26."""
+        methods = self.methods()
+        values = {node.attr for where, node in self.nodes(ast.Attribute) if isinstance(node.ctx, ast.Store)}
+        self.assertEqual(methods & values, set())
+        self.assertEqual((methods & TAKEN) - FREE_METHODS - DUNDERS, set())
+        self.assertEqual((values & TAKEN) - FREE_VALUES, set())
+        called = {id(node.func) for where, node in self.nodes(ast.Call)}
+        for where, node in self.nodes(ast.Attribute):
+            self.assertIn(node.attr, methods | METHODS | values, where)
+            self.assertTrue(node.attr in values or id(node) in called, where)
+
+    def test_calls_and_errors(self):
+        """L19, L22."""
+        for where, node in self.nodes(ast.Call):
+            self.assertLessEqual({keyword.arg for keyword in node.keywords}, KEYWORDS, where)
+        for where, node in self.nodes(ast.Raise):
+            self.assertIsInstance(node.exc, ast.Call, where)
+
+    def test_locals_are_called_like_no_class_or_import_of_their_file(self):
+        """L15."""
+        for name, tree in self.trees.items():
+            taken = {alias.name for node in tree.body if isinstance(node, ast.ImportFrom) for alias in node.names}
+            taken |= {node.name for node in tree.body if isinstance(node, ast.ClassDef)}
+            for node in ast.walk(tree):
+                bound = node.arg if isinstance(node, ast.arg) else None
+                if isinstance(node, ast.Name) and isinstance(node.ctx, ast.Store):
+                    bound = node.id
+                self.assertNotIn(bound, taken, f"{name}: {bound}")
 
 
 if __name__ == "__main__":

@@ -4,21 +4,7 @@ import unittest
 
 from framepost.letters import keeps
 from framepost.signs import END_NAMES, USUAL
-
-NONE = ("none",)
-PLAIN = "".join(chr(code) for code in range(32, 127) if chr(code) != "%") + "\n"
-
-
-def fields(count):
-    return tuple(("n", "v") for number in range(count))
-
-
-def nested(deep, ground=NONE):
-    """A body of parts within parts, the deepest part so deep, with this body in it."""
-    body = ground
-    for number in range(deep):
-        body = ("parts", (((), body),))
-    return body
+from helper import NONE, PLAIN, fields, nested
 
 
 def flat(count):

@@ -6,18 +6,13 @@ import unittest
 from framepost.errors import NoLetter
 from framepost.signs import USUAL
 from framepost.writer import written, written_all
+from helper import NONE, nested, rows
 
-NONE = ("none",)
 ASK = ("ask", (), NONE)
 TELL = ("tell", (("to", "bob"),), ("length", "hi"))
 REST = ("tell", (), ("rest", "on;\nand on"))
 BARE_REST = ("tell", (), ("rest", ""))
 TOO_LONG = ("abcdefghi", (), NONE)
-
-
-def rows(*texts):
-    """The texts, each with a row end behind it."""
-    return "".join(text + ";\n" for text in texts)
 
 
 class Bodies(unittest.TestCase):
@@ -106,11 +101,8 @@ class Bodies(unittest.TestCase):
         ))
 
     def test_parts_as_deep_as_a_book_may_allow(self):
-        body = NONE
-        for number in range(20):
-            body = ("parts", (((), body),))
         start = "ask;\nparts: yes;\n;\n" + "+;\nparts: yes;\n;\n" * 19 + "+;\n;\n"
-        self.assertEqual(written(("ask", (), body), (8, 12, 40, 12, 400, 20, 20)), start + "-;\n" * 20)
+        self.assertEqual(written(("ask", (), nested(20)), (8, 12, 40, 12, 400, 20, 20)), start + "-;\n" * 20)
 
 
 class Refusals(unittest.TestCase):
