@@ -200,3 +200,12 @@ class Closed:
 
     def told(self):
         return self.mark.told()
+
+
+def number_in(text, base, most):
+    """The number from 0 to the greatest one whose writing the text is, None where it is no such writing."""
+    number = Number(base, most)
+    for sign in text:
+        if not number.fed(sign):
+            return None
+    return number.told() if number.good() else None

@@ -1,4 +1,4 @@
-"""What several tests need: signs, a walk along a machine, letters to try, and a reading of whole roads."""
+"""What several tests need: letters to try, cuts, a walk along a machine, and readings of whole roads."""
 
 import random
 import re
@@ -20,6 +20,21 @@ SMALL_BOOKS = (
     (2, 3, 2, 1, 0, 2, 0),
     (2, 3, 2, 0, 2, 0, 2),
 )
+
+ASK = ("ask", (), NONE)
+TELL = ("tell", (("to", "bob"),), ("length", "hi"))
+EMPTY = ("e", (), ("length", ""))
+PIECES = ("ask", (("to", "bob"),), ("pieces", ("hi\n", "x"), (("sum", "4"),)))
+PARTS = ("mix", (("a", "b c"),), ("parts", (
+    ((("n", "1"),), ("length", "-;\n")),
+    ((), ("parts", (((), NONE), ((), ("pieces", ("0;\n",), (("t", ":"),)))))),
+    ((), ("parts", ())),
+)))
+REST = ("tell", (("n", "v"),), ("rest", "on;\n;\nand on"))
+BARE_REST = ("tell", (), ("rest", ""))
+LISTS = ([], [ASK], [TELL], [EMPTY], [PIECES], [PARTS], [REST], [BARE_REST], [ASK, ASK, TELL, EMPTY, ASK],
+         [TELL, PIECES, PARTS, EMPTY, ASK, REST], [PARTS, PARTS, BARE_REST], [PIECES, ASK, TELL])
+CUTS = (1, 2, 3, 7, 16, 100)
 
 
 def rows(*texts):
@@ -44,8 +59,40 @@ def tails_of(texts):
     return sorted({text[at:] for text in texts for at in range(len(text) + 1)}, key=lambda text: (len(text), text))
 
 
+# Signs to try at a place, and endings of frames: some of them ends whatever may still be ended behind it.
+TRY_SIGNS = "abelprst012:;+-~A \n"
+FRAMES = [rows("a", ""), rows("a: a", ""), rows("pieces: yes", "", "0", ""), rows("parts: yes", "", "-"),
+          rows("rest: yes", ""), rows("+", "", "-"), rows("a", "0", ""), rows("1", "a", "0", ""),
+          rows("2", "aa", "0", ""), rows("length: 2", "") + "aa"]
+FRAMES += [rows(f"length: {number}", "") + "a" * number for number in (0, 1, 10, 12, 17)]
+TAILS = sorted({tail + "-;\n" * deep for tail in tails_of(FRAMES) for deep in range(4)}, key=len)
+
+
 def beginnings_of(texts):
     return {text[:at] for text in texts for at in range(len(text) + 1)}
+
+
+def pieces_of(road, size):
+    """The road cut into pieces of that size, one without signs ahead of each and one at the end."""
+    pieces = []
+    for at in range(0, len(road), size):
+        pieces += ["", road[at:at + size]]
+    return pieces + [""]
+
+
+def all_cuts(road):
+    uneven = [road[at * (at + 1) // 2:(at + 1) * (at + 2) // 2] for at in range(len(road) + 1)]
+    return [[road]] + [pieces_of(road, size) for size in CUTS] + [uneven]
+
+
+def roads_amiss(chance, road, turns):
+    """The road with a sign put in, taken out or exchanged, each at so many places."""
+    amiss = []
+    for turn in range(turns):
+        at = chance.randrange(len(road) + 1)
+        sign = chance.choice(";\n:+- 01afelprstyz" + PLAIN)
+        amiss += [road[:at] + sign + road[at:], road[:at] + road[at + 1:], road[:at] + sign + road[at + 1:]]
+    return amiss
 
 
 def fed_on(machine, text):

@@ -4,7 +4,7 @@ import unittest
 
 from framepost.bodies import Body, Tally, body_of
 from framepost.signs import USUAL
-from helper import NONE, PLAIN, fed_on, fields, look_all_over, look_along, look_at, nested, plain_reading, rows, tails_of
+from helper import NONE, PLAIN, fed_on, fields, look_all_over, look_along, nested, plain_reading, rows, tails_of
 
 LENGTH, PIECES, PARTS, REST = ("length", 0), ("pieces", 0), ("parts", 0), ("rest", 0)
 # Endings that make each body whole that can be made so, of the small books below.

@@ -34,6 +34,7 @@ UNUSED_NAMES = set(
     " methodcaller os quit setattr super type vars sys".split())
 DUNDERS = {"__init__", "__eq__", "__repr__", "__str__", "__len__"}
 KEYWORDS = {"key", "reverse", "default", "start", "strict"}
+WALKERS = {"list", "tuple", "dict", "sorted", "sum", "any", "all", "enumerate", "zip", "min", "max"}
 # What Python's own values have; of these, own methods and values may be called as L26 lists.
 TAKEN = {name for kind in (str, int, list, tuple, dict, set, frozenset, bytes) for name in dir(kind)}
 FREE_METHODS = METHODS | {"add", "discard"}
@@ -197,6 +198,69 @@ class Form(unittest.TestCase):
                 if isinstance(node, ast.Name) and isinstance(node.ctx, ast.Store):
                     bound = node.id
                 self.assertNotIn(bound, taken, f"{name}: {bound}")
+
+    def parents(self):
+        """Each node with the one that it stands in."""
+        for name, tree in self.trees.items():
+            above = {child: node for node in ast.walk(tree) for child in ast.iter_child_nodes(node)}
+            for node, parent in above.items():
+                yield f"{name}:{getattr(node, 'lineno', 0)}", node, parent, above
+
+    def test_errors_are_taken_by_their_own_names(self):
+        """L19."""
+        own = {node.name for node in self.trees["errors.py"].body if isinstance(node, ast.ClassDef)}
+        for where, node in self.nodes(ast.ExceptHandler):
+            self.assertIsInstance(node.type, ast.Name, where)
+            self.assertIn(node.type.id, own, where)
+
+    def test_pythons_own_names_are_called_where_they_stand(self):
+        """L22, L24."""
+        for where, node, parent, above in self.parents():
+            if isinstance(node, ast.Name) and node.id in OWN_NAMES:
+                asked = isinstance(parent, ast.Call) and getattr(parent.func, "id", "") == "isinstance"
+                base = isinstance(parent, ast.ClassDef)
+                self.assertTrue(asked or base or isinstance(parent, ast.Call) and parent.func is node, where)
+                self.assertNotIn(node.id, ("set", "frozenset"), where)
+            self.assertNotIsInstance(node, ast.Set, where)
+
+    def test_walked_on_the_spot(self):
+        """L23."""
+        for where, node, parent, above in self.parents():
+            if isinstance(node, ast.Call):
+                name = getattr(node.func, "id", "") or getattr(node.func, "attr", "")
+                if name in ("zip", "enumerate", "reversed", "range", "items", "keys", "values"):
+                    walked = isinstance(parent, (ast.For, ast.comprehension)) and parent.iter is node
+                    taken = isinstance(parent, ast.Call) and parent.args[0] is node and (
+                        getattr(parent.func, "id", "") in WALKERS or getattr(parent.func, "attr", "") == "join")
+                    self.assertTrue(walked or taken, where)
+
+    def test_lists_and_dicts_of_a_files_top_are_only_read(self):
+        """L15."""
+        for name, tree in self.trees.items():
+            kept = {node.targets[0].id: node.value for node in tree.body if isinstance(node, ast.Assign)}
+            kept = {key for key, value in kept.items() if isinstance(value, (ast.List, ast.Dict))}
+            for where, node, parent, above in self.parents():
+                if where.startswith(name) and isinstance(node, ast.Name) and node.id in kept and isinstance(node.ctx, ast.Load):
+                    read = isinstance(parent, ast.Subscript) and isinstance(parent.ctx, ast.Load) and parent.value is node
+                    asked = isinstance(parent, ast.Compare)
+                    got = isinstance(parent, ast.Attribute) and parent.attr in ("get", "items", "keys", "values")
+                    self.assertTrue(read or asked or got, where)
+
+    def test_classes_are_called_or_asked_for(self):
+        """L18."""
+        classes = {node.name for where, node in self.nodes(ast.ClassDef)}
+        for where, node, parent, above in self.parents():
+            if isinstance(node, ast.Name) and node.id in classes:
+                self.assertIsInstance(node.ctx, ast.Load, where)
+                called = isinstance(parent, ast.Call) and parent.func is node
+                self.assertTrue(called or isinstance(parent, (ast.ClassDef, ast.ExceptHandler)) or (
+                    isinstance(parent, ast.Attribute) and parent.attr == "__init__"), where)
+
+    def test_escapes(self):
+        """L27."""
+        for name, text in self.texts.items():
+            for number, row in enumerate(text.split("\n"), start=1):
+                self.assertIsNone(re.search(r"(?<!\\)(\\\\)*\\[^nt\\'\"]", row), f"{name}:{number}")
 
 
 if __name__ == "__main__":

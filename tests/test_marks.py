@@ -3,7 +3,7 @@
 import itertools
 import unittest
 
-from framepost.marks import Exact, Name, Number, RowEnd, Value, Word
+from framepost.marks import Exact, Name, Number, RowEnd, Value, Word, number_in
 from framepost.signs import END_NAMES
 from helper import PLAIN, SMALL, beginnings_of, fed_on, look_all_over, look_along, look_at, tails_of
 
@@ -106,6 +106,20 @@ class Numbers(Machines):
         for base in (10, 16):
             self.unready(lambda: Number(base, 0), "")
             self.unready(lambda: Number(base, 7), "")
+
+
+class NumbersInTexts(unittest.TestCase):
+    def test_writings_of_numbers(self):
+        for number in range(401):
+            self.assertEqual(number_in(str(number), 10, 400), number)
+            self.assertEqual(number_in(f"{number:x}", 16, 400), number)
+
+    def test_other_texts(self):
+        for text in ("", "00", "01", "401", "4000", "-1", "+1", "1 ", " 1", "1\n", "a", "x", "1,0"):
+            self.assertIsNone(number_in(text, 10, 400), text)
+        for text in ("", "00", "0a", "191", "1000", "A", "g", "1 "):
+            self.assertIsNone(number_in(text, 16, 400), text)
+        self.assertEqual((number_in("0", 10, 0), number_in("1", 10, 0)), (0, None))
 
 
 class Words(Machines):

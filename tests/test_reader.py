@@ -7,35 +7,8 @@ from framepost.letters import keeps
 from framepost.reader import Reader, read_all
 from framepost.signs import USUAL
 from framepost.writer import written, written_all
-from helper import NONE, PLAIN, SMALL_BOOKS, Maker, fields, nested, plain_reading, rows, tails_of
-
-ASK = ("ask", (), NONE)
-TELL = ("tell", (("to", "bob"),), ("length", "hi"))
-EMPTY = ("e", (), ("length", ""))
-PIECES = ("ask", (("to", "bob"),), ("pieces", ("hi\n", "x"), (("sum", "4"),)))
-PARTS = ("mix", (("a", "b c"),), ("parts", (
-    ((("n", "1"),), ("length", "-;\n")),
-    ((), ("parts", (((), NONE), ((), ("pieces", ("0;\n",), (("t", ":"),)))))),
-    ((), ("parts", ())),
-)))
-REST = ("tell", (("n", "v"),), ("rest", "on;\n;\nand on"))
-BARE_REST = ("tell", (), ("rest", ""))
-LISTS = ([], [ASK], [TELL], [EMPTY], [PIECES], [PARTS], [REST], [BARE_REST], [ASK, ASK, TELL, EMPTY, ASK],
-         [TELL, PIECES, PARTS, EMPTY, ASK, REST], [PARTS, PARTS, BARE_REST], [PIECES, ASK, TELL])
-CUTS = (1, 2, 3, 7, 16, 100)
-
-
-def pieces_of(road, size):
-    """The road cut into pieces of that size, one without signs ahead of each and one at the end."""
-    pieces = []
-    for at in range(0, len(road), size):
-        pieces += ["", road[at:at + size]]
-    return pieces + [""]
-
-
-def all_cuts(road):
-    uneven = [road[at * (at + 1) // 2:(at + 1) * (at + 2) // 2] for at in range(len(road) + 1)]
-    return [[road]] + [pieces_of(road, size) for size in CUTS] + [uneven]
+from helper import ASK, BARE_REST, EMPTY, LISTS, NONE, PARTS, PIECES, REST, SMALL_BOOKS, TAILS, TELL, TRY_SIGNS, Maker
+from helper import all_cuts, fields, nested, plain_reading, roads_amiss, rows
 
 
 def fed_by(reader, pieces):
@@ -326,16 +299,9 @@ class Refusals(Reading):
 class Places(Reading):
     """At each place each sign, held against readings of whole roads."""
 
-    SIGNS = "abelprst012:;+-~A \n"
-    FRAMES = [rows("a", ""), rows("a: a", ""), rows("pieces: yes", "", "0", ""), rows("parts: yes", "", "-"),
-              rows("rest: yes", ""), rows("+", "", "-"), rows("a", "0", ""), rows("1", "a", "0", ""),
-              rows("2", "aa", "0", ""), rows("length: 2", "") + "aa"]
-    FRAMES += [rows(f"length: {number}", "") + "a" * number for number in (0, 1, 10, 12, 17)]
-    TAILS = sorted({tail + "-;\n" * deep for tail in tails_of(FRAMES) for deep in range(4)}, key=len)
-
     def look_at(self, road, book):
         """Whether each sign is refused behind this road just where no road begins so."""
-        for sign in self.SIGNS:
+        for sign in TRY_SIGNS:
             longer = road + sign
             reader = Reader(book)
             at = fed_by(reader, [longer])
@@ -343,7 +309,7 @@ class Places(Reading):
                 self.assertIsNotNone(plain_reading(longer + reader.awaited(), book), repr(longer))
             else:
                 self.assertEqual(at, len(road), repr(longer))
-                self.assertEqual([tail for tail in self.TAILS if plain_reading(longer + tail, book) is not None], [],
+                self.assertEqual([tail for tail in TAILS if plain_reading(longer + tail, book) is not None], [],
                                  repr(longer))
 
     def test_along_roads_of_small_books(self):
@@ -370,11 +336,8 @@ class Places(Reading):
             maker = Maker(book, seed)
             for number in range(8):
                 road = written_all(maker.letters(3), book)[:400]
-                for turn in range(12):
-                    at = maker.chance.randrange(len(road) + 1)
-                    sign = maker.chance.choice(";\n:+- 01afelprstyz" + PLAIN)
-                    for amiss in (road[:at] + sign + road[at:], road[:at] + road[at + 1:], road[:at] + sign + road[at + 1:]):
-                        self.same_however_cut(amiss, book)
+                for amiss in roads_amiss(maker.chance, road, 12):
+                    self.same_however_cut(amiss, book)
 
     def same_however_cut(self, road, book):
         told = []
